@@ -248,8 +248,8 @@ func TestTooMany(t *testing.T) {
 			for i := range n {
 				x := Tree[int]{root: root, long: n}
 				k := numbered(i) + " and behind it"
-				if x.Put(k, -1) {
-					t.Fatalf("of %v %q is there", many, k)
+				if !x.Put(k, -1) {
+					t.Fatalf("of %v Put(%q) = false, it should be true: it wasn't there", many, k)
 				}
 				shape(t, &x)
 				want := slices.Insert(orders(n)[0], i+1, -1)

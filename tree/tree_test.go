@@ -36,7 +36,7 @@ func (p *plain[V]) put(k string, v V) bool {
 		p.l = slices.Insert(p.l, i, pair[V]{k, v})
 	}
 	p.l[i].v = v
-	return here
+	return !here
 }
 
 func (p *plain[V]) get(k string) (V, bool) {
@@ -156,7 +156,7 @@ func TestZeroTree(t *testing.T) {
 			t.Fatalf("a zero Tree has something from %q on", k)
 		}
 	}
-	if x.Put("k", 5) {
+	if !x.Put("k", 5) {
 		t.Error("Put answers that a key was there ahead in a zero Tree")
 	}
 	if v, ok := x.Get("k"); v != 5 || !ok || x.Len() != 1 || x.Deep() != 1 {
@@ -188,6 +188,45 @@ func TestFromToNothing(t *testing.T) {
 	x.From("")(nil)
 	x.From(key(7))(nil)
 	same(t, x, p)
+}
+
+// P13.1: Put tells whether its key was not there ahead ("was it not there ahead?"), Del
+// whether its key was: a key that is new, one that is there, and one that was let go.
+func TestPutAnswers(t *testing.T) {
+	for _, k := range oddKeys() {
+		var x tree.Tree[int]
+		first, second := x.Put(k, 0), x.Put(k, 1)
+		gone, again := x.Del(k), x.Del(k)
+		behind := x.Put(k, 2)
+		if !first || second || !gone || again || !behind {
+			t.Fatalf("%.20q put, put again, let go, let go again, put: %v %v %v %v %v, it should be true false true false true",
+				k, first, second, gone, again, behind)
+		}
+	}
+}
+
+// P13.1: what Put answers in trees of each depth, at each key that is there (in a root,
+// in a node between, in one without children) and at each one that isn't, also where
+// nodes are split for it; of the same value, too.
+func TestPutAnswersInDepth(t *testing.T) {
+	for deep, n := range []int{0, 7, 30, 120, 500, 2000} {
+		x, _ := filled(n)
+		if x.Deep() < deep {
+			t.Fatalf("Deep() = %d of %d keys, the test should see %d", x.Deep(), n, deep)
+		}
+		for i := range 2*n + 2 {
+			there := i%2 == 1 && i < 2*n
+			if got := x.Put(key(i), i); got == there {
+				t.Fatalf("of %d keys Put(%q) = %v, it was there: %v", n, key(i), got, there)
+			}
+			if x.Put(key(i), i) || x.Put(key(i), -i) {
+				t.Fatalf("of %d keys Put(%q) = true where it was there", n, key(i))
+			}
+			if !x.Del(key(i)) || !x.Put(key(i), i) {
+				t.Fatalf("of %d keys Put(%q) = false where it was let go", n, key(i))
+			}
+		}
+	}
 }
 
 // P13.1: of one key, of 3, of 7, of 8 and of more, put in each order: each call's
